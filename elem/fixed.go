@@ -6,13 +6,13 @@ import (
 	"inequality/natural"
 )
 
-// size is the number of words of a fixed number: exp(64) with the greatest working precision, 240, has less than 64 * size bits.
-const size = 6
+// fixedWords is the number of words of a fixed number: exp(64) with the greatest working precision, 240, has less than 64 * fixedWords bits.
+const fixedWords = 6
 
 // fixed is a natural number, the sum of its words f[i] * 2^(64*i). It is a number of units of 2^-w, where w is the working precision. Unlike a natural.Nat it needs no memory of its own, which makes the series several times as fast.
-type fixed [size]uint64
+type fixed [fixedWords]uint64
 
-// fixedOf returns the number n, which must be less than 2^(64*size).
+// fixedOf returns the number n, which must be less than 2^(64*fixedWords).
 func fixedOf(n natural.Nat) fixed {
 	var f fixed
 	for i, word := range n {
@@ -23,7 +23,7 @@ func fixedOf(n natural.Nat) fixed {
 
 // natural returns the number as one that has no limit of size.
 func (f fixed) natural() natural.Nat {
-	words := make([]uint32, 2*size)
+	words := make([]uint32, 2*fixedWords)
 	for i, word := range f {
 		words[2*i], words[2*i+1] = uint32(word), uint32(word>>32)
 	}
@@ -32,7 +32,7 @@ func (f fixed) natural() natural.Nat {
 
 // length returns the number of words without the most significant words 0.
 func (f *fixed) length() int {
-	n := size
+	n := fixedWords
 	for n > 0 && f[n-1] == 0 {
 		n--
 	}
@@ -71,7 +71,7 @@ func (f fixed) times(n uint64) fixed {
 // over returns f / n without its fraction, and whether there is one.
 func (f fixed) over(n uint64) (quotient fixed, inexact bool) {
 	var rest uint64
-	for i := size - 1; i >= 0; i-- {
+	for i := fixedWords - 1; i >= 0; i-- {
 		if rest != 0 || f[i] != 0 {
 			quotient[i], rest = bits.Div64(rest, f[i], n)
 		}
@@ -86,7 +86,7 @@ func down(f fixed, inexact bool) fixed {
 
 // up is the rounding up of a number from which a fraction was cut off.
 func up(f fixed, inexact bool) fixed {
-	for i := 0; inexact && i < size; i++ {
+	for i := 0; inexact && i < fixedWords; i++ {
 		f[i]++
 		inexact = f[i] == 0
 	}
@@ -95,7 +95,7 @@ func up(f fixed, inexact bool) fixed {
 
 // multiply returns f * g / 2^w without its fraction, and whether there is one.
 func (w precision) multiply(f, g fixed) (product fixed, inexact bool) {
-	var wide [2*size + 1]uint64
+	var wide [2*fixedWords + 1]uint64
 	n := g.length()
 	for i, x := range f[:f.length()] {
 		var carry uint64

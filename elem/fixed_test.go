@@ -11,7 +11,7 @@ import (
 // wide returns f as a number of math/big.
 func wide(f fixed) *big.Int {
 	n := new(big.Int)
-	for i := size - 1; i >= 0; i-- {
+	for i := fixedWords - 1; i >= 0; i-- {
 		n.Lsh(n, 64).Or(n, new(big.Int).SetUint64(f[i]))
 	}
 	return n
@@ -36,7 +36,7 @@ func TestFixed(t *testing.T) {
 	}
 	r := rand.New(rand.NewSource(1))
 	for range 5000 {
-		f, g := sample(r, size-1), sample(r, size-1)
+		f, g := sample(r, fixedWords-1), sample(r, fixedWords-1)
 		if wide(f).Cmp(wide(g)) < 0 {
 			f, g = g, f
 		}
@@ -63,7 +63,7 @@ func TestMultiply(t *testing.T) {
 			f, g := sample(r, 4), sample(r, 4)
 			product := new(big.Int).Mul(wide(f), wide(g))
 			low := new(big.Int).Rsh(product, uint(w))
-			if low.BitLen() > 64*size {
+			if low.BitLen() > 64*fixedWords {
 				continue
 			}
 			high := new(big.Int).Set(low)
