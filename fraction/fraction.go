@@ -42,7 +42,7 @@ func Of(x api.Rat) (Fraction, api.Errno) {
 		den = natural.FromUint(1)
 	}
 	a := New(x.Neg, num, den)
-	if a.large() {
+	if a.Large() {
 		return Fraction{}, api.ErrSize
 	}
 	return a, api.OK
@@ -50,7 +50,7 @@ func Of(x api.Rat) (Fraction, api.Errno) {
 
 // Rat returns the canonical value of a in memory of its own, or ErrSize if it is large.
 func (a Fraction) Rat() (api.Rat, api.Errno) {
-	if a.large() {
+	if a.Large() {
 		return api.Rat{}, api.ErrSize
 	}
 	x := api.Rat{Neg: a.neg, Num: words(a.num)}
@@ -70,8 +70,8 @@ func words(n natural.Nat) []uint32 {
 	return list
 }
 
-// large reports whether a is too large for an argument or a result.
-func (a Fraction) large() bool {
+// Large reports whether a is too large for an argument or a result.
+func (a Fraction) Large() bool {
 	return max(len(a.num), len(a.den)) > api.MaxWords
 }
 
@@ -122,16 +122,25 @@ func (a Fraction) Abs() Fraction {
 	return Fraction{false, a.num, a.den}
 }
 
-// Add returns a + b.
+// Add returns a + b. Only a divisor of both denominators can be left in the sum, so that no divisor of two long numbers is needed where one denominator is short.
 func (a Fraction) Add(b Fraction) Fraction {
-	x, y, den := a.num.Mul(b.den), b.num.Mul(a.den), a.den.Mul(b.den)
+	common := a.den.Gcd(b.den)
+	x, _ := a.den.Div(common)
+	y, _ := b.den.Div(common)
+	neg, num := signedSum(a.neg, a.num.Mul(y), b.neg, b.num.Mul(x))
+	sum := New(neg, num, common)
+	return Fraction{sum.neg, sum.num, sum.den.Mul(x).Mul(y)}
+}
+
+// signedSum returns the sum of two natural numbers with signs.
+func signedSum(negX bool, x natural.Nat, negY bool, y natural.Nat) (bool, natural.Nat) {
 	switch {
-	case a.neg == b.neg:
-		return New(a.neg, x.Add(y), den)
+	case negX == negY:
+		return negX, x.Add(y)
 	case x.Compare(y) < 0:
-		return New(b.neg, y.Sub(x), den)
+		return negY, y.Sub(x)
 	}
-	return New(a.neg, x.Sub(y), den)
+	return negX, x.Sub(y)
 }
 
 // Sub returns a - b.

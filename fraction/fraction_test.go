@@ -49,6 +49,9 @@ func TestOperations(t *testing.T) {
 		is(t, "Add", a.Add(b), new(big.Rat).Add(x, y))
 		is(t, "Sub", a.Sub(b), new(big.Rat).Sub(x, y))
 		is(t, "Sub of itself", a.Sub(a), new(big.Rat))
+		part := New(b.neg, b.num, b.den.Mul(a.den)) // so that the denominators have a divisor in common
+		is(t, "Add of a part", a.Add(part), new(big.Rat).Add(x, wide(part)))
+		is(t, "Sub of a sum", a.Add(part).Sub(a), wide(part))
 		is(t, "Mul", a.Mul(b), new(big.Rat).Mul(x, y))
 		is(t, "Neg", a.Neg(), new(big.Rat).Neg(x))
 		is(t, "Abs", a.Abs(), new(big.Rat).Abs(x))
