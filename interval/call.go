@@ -3,11 +3,12 @@ package interval
 import (
 	"inequality/api"
 	"inequality/elem"
+	"inequality/halt"
 )
 
 // call returns a set that contains the values of the function fn at all x. Every function but sin and cos rises or falls on the whole of its domain, or between its poles.
 func (a set) call(fn, p int) set {
-	requireDomain(a.inDomain(fn))
+	halt.Unless(a.inDomain(fn), api.ErrDomain)
 	switch fn {
 	case api.FnSin:
 		return a.wave(fn, p, 3, 1)
@@ -17,7 +18,7 @@ func (a set) call(fn, p int) set {
 	first, last := a.values(fn, p)
 	switch fn {
 	case api.FnTan:
-		requireDomain(!a.turns(1) && !a.turns(3))
+		halt.Unless(!a.turns(1) && !a.turns(3), api.ErrDomain)
 	case api.FnAcos:
 		return set{lo: last.lo, hi: first.hi}
 	}
@@ -39,7 +40,7 @@ func (a set) inDomain(fn int) bool {
 
 // turns reports whether a multiple of pi/2, with the remainder r when the factor is divided by 4, may be in the set. The set must be bounded, and its ends must be arguments that sin supports.
 func (a set) turns(r int) bool {
-	return must(elem.Turns(a.lo.rat(), a.hi.rat(), r))
+	return halt.Must(elem.Turns(a.lo.rat(), a.hi.rat(), r))
 }
 
 // wave is call for sin and cos, which are -1 at the multiples of pi/2 with the remainder least, and 1 at those with the remainder greatest.
@@ -73,7 +74,7 @@ func (e end) bracket(fn, p int) set {
 		limit := e.limit(fn, p)
 		return set{lo: limit, hi: limit}
 	}
-	b := must(elem.Apply(fn, e.rat(), p))
+	b := halt.Must(elem.Apply(fn, e.rat(), p))
 	return set{lo: read(b.Lo), hi: read(b.Hi)}
 }
 
@@ -81,7 +82,7 @@ func (e end) bracket(fn, p int) set {
 func (e end) limit(fn, p int) end {
 	switch {
 	case fn == api.FnAtan:
-		pi := read(must(elem.Pi(p)).Hi)
+		pi := read(halt.Must(elem.Pi(p)).Hi)
 		return pi.times(whole(2).inverse()).up(p).times(whole(e.inf))
 	case e.inf < 0: // of exp: log has no such end
 		return whole(0)

@@ -5,6 +5,7 @@ import (
 
 	"inequality/api"
 	"inequality/fraction"
+	"inequality/halt"
 )
 
 // end is an end of an interval: a number or, if inf is 1 or -1, infinity or its opposite.
@@ -25,7 +26,7 @@ func whole(n int) end {
 
 // read returns the end at the number x.
 func read(x api.Rat) end {
-	return finite(must(fraction.Of(x)))
+	return finite(halt.Must(fraction.Of(x)))
 }
 
 // infinite reports whether e is not a number.
@@ -38,7 +39,7 @@ func (e end) rat() api.Rat {
 	if e.infinite() {
 		return api.Rat{}
 	}
-	return must(e.value.Rat())
+	return halt.Must(e.value.Rat())
 }
 
 // sign returns -1, 0 or 1.
@@ -109,7 +110,7 @@ func (e end) inverse() end {
 	if e.infinite() {
 		return whole(0)
 	}
-	return finite(must(fraction.FromInt(1).Div(e.value)))
+	return finite(halt.Must(fraction.FromInt(1).Div(e.value)))
 }
 
 // change returns the end at the result of op. An infinite end stays, because every op that is passed grows with its number without a bound.
@@ -132,7 +133,7 @@ func (e end) up(p int) end {
 
 // power returns e to the power n, for positive n. n must be odd if e is negative.
 func (e end) power(n int) end {
-	return e.change(func(x fraction.Fraction) fraction.Fraction { return must(x.Pow(n)) })
+	return e.change(func(x fraction.Fraction) fraction.Fraction { return halt.Must(x.Pow(n)) })
 }
 
 // rootDown returns the root of e with the index n, rounded down. n must be odd if e is negative.

@@ -2,6 +2,7 @@ package interval
 
 import (
 	"inequality/api"
+	"inequality/halt"
 	"inequality/number"
 )
 
@@ -74,14 +75,14 @@ func (a set) hull(b set) set {
 
 // middle returns a number of the set. If the set is empty, there is none.
 func (a set) middle() api.Rat {
-	requireArg(!a.empty)
+	halt.Unless(!a.empty, api.ErrArg)
 	switch {
 	case a.bounded():
-		return must(number.Middle(a.lo.rat(), a.hi.rat()))
+		return halt.Must(number.Middle(a.lo.rat(), a.hi.rat()))
 	case !a.lo.infinite():
-		return must(number.Add(a.lo.rat(), number.FromInt(1)))
+		return halt.Must(number.Add(a.lo.rat(), number.FromInt(1)))
 	case !a.hi.infinite():
-		return must(number.Sub(a.hi.rat(), number.FromInt(1)))
+		return halt.Must(number.Sub(a.hi.rat(), number.FromInt(1)))
 	}
 	return number.FromInt(0)
 }
@@ -204,13 +205,6 @@ func (a set) power(n int) set {
 
 // root returns the hull of the roots of all x with the index n, rounded outward.
 func (a set) root(n, p int) set {
-	requireDomain(n%2 == 1 || a.lo.sign() >= 0)
+	halt.Unless(n%2 == 1 || a.lo.sign() >= 0, api.ErrDomain)
 	return set{lo: a.lo.rootDown(n, p), hi: a.hi.rootUp(n, p)}
-}
-
-// requireDomain ends an operation that is not defined at all numbers of its argument.
-func requireDomain(defined bool) {
-	if !defined {
-		panic(api.ErrDomain)
-	}
 }

@@ -1,26 +1,27 @@
-package interval
+package halt_test
 
 import (
 	"testing"
 
 	"inequality/api"
+	"inequality/halt"
 )
 
 // An operation returns its first error, and nothing beside it.
-func TestFinish(t *testing.T) {
+func TestRun(t *testing.T) {
 	reached := false
-	result, err := finish(func() []int {
-		must(1, api.OK)
-		list := []int{must(2, api.OK)}
-		list[0] = must(3, api.ErrZero)
+	result, err := halt.Run(func() []int {
+		halt.Must(1, api.OK)
+		list := []int{halt.Must(2, api.OK)}
+		list[0] = halt.Must(3, api.ErrZero)
 		reached = true
-		must(4, api.ErrSize)
+		halt.Must(4, api.ErrSize)
 		return list
 	})
 	if result != nil || err != api.ErrZero || reached {
 		t.Errorf("the operation returns %v, %d, %v", result, err, reached)
 	}
-	if n, err := finish(func() int { return must(5, api.OK) }); n != 5 || err != api.OK {
+	if n, err := halt.Run(func() int { return halt.Must(5, api.OK) }); n != 5 || err != api.OK {
 		t.Errorf("an operation without an error returns %d, %d", n, err)
 	}
 }
@@ -32,5 +33,5 @@ func TestOtherPanic(t *testing.T) {
 			t.Error("the panic was hidden")
 		}
 	}()
-	finish(func() int { panic("mistake") })
+	halt.Run(func() int { panic("mistake") })
 }
