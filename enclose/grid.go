@@ -15,26 +15,32 @@ func isPrecision(p int) bool {
 	return p >= 0 && p <= api.MaxPrec
 }
 
+// round returns a with its ends moved outward to the grid.
 func (g grid) round(a api.Interval) api.Interval {
 	return halt.Must(interval.Round(a, int(g)))
 }
 
+// add returns the sums of the numbers of a and b.
 func (g grid) add(a, b api.Interval) api.Interval {
 	return halt.Must(interval.Add(a, b, int(g)))
 }
 
+// sub returns their differences.
 func (g grid) sub(a, b api.Interval) api.Interval {
 	return halt.Must(interval.Sub(a, b, int(g)))
 }
 
+// mul returns their products.
 func (g grid) mul(a, b api.Interval) api.Interval {
 	return halt.Must(interval.Mul(a, b, int(g)))
 }
 
+// div returns their quotients.
 func (g grid) div(a, b api.Interval) api.Interval {
 	return halt.Must(interval.Div(a, b, int(g)))
 }
 
+// pow returns the powers of the numbers of a with the exponent n.
 func (g grid) pow(a api.Interval, n int) api.Interval {
 	return halt.Must(interval.Pow(a, n, int(g)))
 }
