@@ -1,4 +1,4 @@
-package expr
+package syntax
 
 import (
 	"strings"
@@ -10,19 +10,19 @@ import (
 
 // Kinds of tokens.
 const (
-	noToken       = iota
-	digitsToken   // a NUMBER that consists of digits alone
-	fractionToken // any other NUMBER
-	nameToken     // the name of a variable
-	markToken     // a reserved word or a sign
-	endToken      // the end of the text
+	noToken  = iota
+	Digits   // a NUMBER that consists of digits alone
+	Fraction // any other NUMBER
+	Name     // the name of a variable
+	Mark     // a reserved word or a sign
+	End      // the end of the text
 )
 
-// token is a token and its place in the text.
-type token struct {
-	kind int
-	text string
-	at   int
+// Token is a token and its place in the text.
+type Token struct {
+	Kind int
+	Text string
+	At   int
 }
 
 // words are the reserved words that are not names of functions.
@@ -39,33 +39,43 @@ func isReserved(word string) bool {
 	return isFunction
 }
 
-// scan returns the tokens of a text with one more for its end, and true; or the offset at which no token begins, and false.
-func scan(s string) ([]token, int, bool) {
-	var list []token
+// IsName reports whether s is the name of a variable.
+func IsName(s string) bool {
+	return len(s) <= api.MaxName && len(s) > 0 && wordLength(s) == len(s) && !isReserved(s)
+}
+
+// scan returns the tokens of a text with one more for its end, and true; or the offset at which no token begins, and false. The signs are those that the text may have beside the ones of expressions; one that begins with another one stands in front of it.
+func scan(s string, signs []string) ([]Token, int, bool) {
+	var list []Token
 	at := 0
 	for {
 		at += prefix(s[at:], func(c byte) bool { return c == ' ' })
 		if at == len(s) {
-			return append(list, token{endToken, "", at}), 0, true
+			return append(list, Token{End, "", at}), 0, true
 		}
-		kind, length := first(s[at:])
+		kind, length := first(s[at:], signs)
 		if kind == noToken {
 			return nil, at, false
 		}
-		list = append(list, token{kind, s[at : at+length], at})
+		list = append(list, Token{kind, s[at : at+length], at})
 		at += length
 	}
 }
 
 // first returns the kind and the length of the token at the beginning of s, which is not empty.
-func first(s string) (kind, length int) {
+func first(s string, signs []string) (kind, length int) {
 	switch c := s[0]; {
 	case isDigit(c):
 		return numeral(s)
 	case isLetter(c):
 		return word(s)
 	case strings.IndexByte("+-*/^(),", c) >= 0:
-		return markToken, 1
+		return Mark, 1
+	}
+	for _, sign := range signs {
+		if strings.HasPrefix(s, sign) {
+			return Mark, len(sign)
+		}
 	}
 	return noToken, 0
 }
@@ -75,10 +85,10 @@ func numeral(s string) (kind, length int) {
 	n := prefix(s, isDigit)
 	if n < len(s) && (s[n] == '.' || s[n] == '/') {
 		if more := prefix(s[n+1:], isDigit); more > 0 {
-			return fractionToken, n + 1 + more
+			return Fraction, n + 1 + more
 		}
 	}
-	return digitsToken, n
+	return Digits, n
 }
 
 // word returns the kind and the length of the word at the beginning of s.
@@ -86,9 +96,9 @@ func word(s string) (kind, length int) {
 	n := wordLength(s)
 	switch {
 	case isReserved(s[:n]):
-		return markToken, n
+		return Mark, n
 	case IsName(s[:n]):
-		return nameToken, n
+		return Name, n
 	}
 	return noToken, 0
 }
@@ -120,19 +130,19 @@ func isLetter(c byte) bool {
 	return c >= 'a' && c <= 'z'
 }
 
-// isNumber reports whether a token is a NUMBER.
-func (t token) isNumber() bool {
-	return t.kind == digitsToken || t.kind == fractionToken
+// IsNumber reports whether a token is a NUMBER.
+func (t Token) IsNumber() bool {
+	return t.Kind == Digits || t.Kind == Fraction
 }
 
 // isOverZero reports whether the digits after the slash of a NUMBER denote 0, however many they are.
-func (t token) isOverZero() bool {
-	_, below, ok := strings.Cut(t.text, "/")
+func (t Token) isOverZero() bool {
+	_, below, ok := strings.Cut(t.Text, "/")
 	return ok && strings.Trim(below, "0") == ""
 }
 
 // isLarge reports whether a NUMBER is large or has too many bytes.
-func (t token) isLarge() bool {
-	_, err := number.Parse(t.text)
+func (t Token) isLarge() bool {
+	_, err := number.Parse(t.Text)
 	return err == api.ErrLimit || err == api.ErrSize
 }
