@@ -39,37 +39,6 @@ func follow(s *api.Step, path []int) *api.Step {
 	return s
 }
 
-// copied returns s in new memory.
-func copied(s api.Step) api.Step {
-	s.At = copiedNumber(s.At)
-	s.E = copiedExpr(s.E)
-	s.Point = each(s.Point, func(v api.Value) api.Value { return api.Value{Name: v.Name, Num: copiedNumber(v.Num)} })
-	s.Args = each(s.Args, func(b api.Bind) api.Bind { return api.Bind{Name: b.Name, E: copiedExpr(b.E)} })
-	s.Kids = each(s.Kids, copied)
-	return s
-}
-
-// copiedExpr returns e, which need not be valid, in new memory.
-func copiedExpr(e api.Expr) api.Expr {
-	e.Num = copiedNumber(e.Num)
-	e.Kids = each(e.Kids, copiedExpr)
-	return e
-}
-
-// copiedNumber returns x, of any size, in new memory.
-func copiedNumber(x api.Rat) api.Rat {
-	return api.Rat{Neg: x.Neg, Num: slices.Clone(x.Num), Den: slices.Clone(x.Den)}
-}
-
-// each returns what change makes of each element of a list.
-func each[T any](list []T, change func(x T) T) []T {
-	var changed []T
-	for _, x := range list {
-		changed = append(changed, change(x))
-	}
-	return changed
-}
-
 // sameFields reports whether s and t are the same steps but for their kids.
 func sameFields(s, t api.Step) bool {
 	texts := s.Name == t.Name && s.Other == t.Other && s.Entry == t.Entry
