@@ -143,8 +143,8 @@ func (a attempt) lead() (api.Move, bool) {
 	}
 	var steps []api.Step
 	for _, end := range ends {
-		if !a.vanishes([]api.Value{{Name: side.Name, Num: end}}) { // then no order applies
-			continue
+		if !a.vanishes([]api.Value{{Name: side.Name, Num: end}}) {
+			continue // there is no zero of any order
 		}
 		for n := 1; n <= leadOrder; n++ {
 			steps = append(steps, api.Step{Rule: api.RuleLead, Name: side.Name, At: end, N: n, Prec: a.prec})
