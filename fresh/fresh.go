@@ -52,6 +52,17 @@ func Move(m api.Move) api.Move {
 	return api.Move{State: m.State, Step: Step(m.Step), Kids: Claims(m.Kids), Point: Point(m.Point)}
 }
 
+// Entry returns e in new memory.
+func Entry(e api.Entry) api.Entry {
+	e.Claim, e.Proof = Claim(e.Claim), Step(e.Proof)
+	return e
+}
+
+// Entries returns entries in new memory.
+func Entries(list []api.Entry) []api.Entry {
+	return each(list, Entry)
+}
+
 // side returns a side of a box in new memory.
 func side(s api.Side) api.Side {
 	s.Iv.Lo, s.Iv.Hi = Number(s.Iv.Lo), Number(s.Iv.Hi)

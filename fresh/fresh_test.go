@@ -59,9 +59,11 @@ func TestCopies(t *testing.T) {
 	shared := step(6)
 	shared.Kids = []api.Step{kid, kid, {}}
 	point := []api.Value{{Name: "x", Num: number(3)}, {Name: "x", Num: number(4)}, {}}
+	entry := api.Entry{Name: "e", Ver: -4, Claim: claim(8), Proof: shared}
+	entries := []api.Entry{entry, entry, {}}
 	move := api.Move{State: 2, Step: step(9), Kids: []api.Claim{claim(1), claim(2), {}}, Point: point}
 	for _, pair := range [][2]any{
-		{number(7), fresh.Number(number(7))}, {api.Rat{}, fresh.Number(api.Rat{})}, {expression(7), fresh.Expr(expression(7))}, {claim(7), fresh.Claim(claim(7))}, {api.Claim{}, fresh.Claim(api.Claim{})}, {shared, fresh.Step(shared)}, {api.Step{}, fresh.Step(api.Step{})}, {point, fresh.Point(point)}, {move, fresh.Move(move)}, {api.Move{}, fresh.Move(api.Move{})},
+		{number(7), fresh.Number(number(7))}, {api.Rat{}, fresh.Number(api.Rat{})}, {expression(7), fresh.Expr(expression(7))}, {claim(7), fresh.Claim(claim(7))}, {api.Claim{}, fresh.Claim(api.Claim{})}, {shared, fresh.Step(shared)}, {api.Step{}, fresh.Step(api.Step{})}, {point, fresh.Point(point)}, {entry, fresh.Entry(entry)}, {entries, fresh.Entries(entries)}, {move, fresh.Move(move)}, {api.Move{}, fresh.Move(api.Move{})},
 	} {
 		if !reflect.DeepEqual(pair[0], pair[1]) {
 			t.Errorf("the copy of %v is %v", pair[0], pair[1])
